@@ -1,0 +1,1 @@
+"""Sealedreach: words that no program can make."""
