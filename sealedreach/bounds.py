@@ -15,6 +15,12 @@ def are_bounds(low, high):
     return is_whole(low, 0, CELLS) and is_whole(high, 0, CELLS) and low < high
 
 
+def look_at_bounds(low, high):
+    """Refuse what is no bounds."""
+    if not are_bounds(low, high):
+        raise NoBounds("bounds are two whole numbers from 0 to 4096, low less than high")
+
+
 def is_exact(low, high):
     """Tell whether some bits tell just these bounds."""
     return least_bounds(low, high) == (low, high)
@@ -28,7 +34,7 @@ def least_bounds(low, high):
 
 def in_bits(low, high):
     """Tell the step, first and count of the least bounds that hold these."""
-    _look_at_bounds(low, high)
+    look_at_bounds(low, high)
     step = 0
     while _steps_over(low, high, step) > TOP_COUNT:
         step += 1
@@ -44,17 +50,12 @@ def room_of(many):
 
 def greatest_high(low, high):
     """Tell the greatest high, not above this one, with which low is told exactly."""
-    _look_at_bounds(low, high)
+    look_at_bounds(low, high)
     # Any count of a greater step reaches farther than all counts of a smaller one.
     step = TOP_STEP
     while step > 0 and not _can_begin(low, high, step):
         step -= 1
     return low + (min(TOP_COUNT, (high - low) >> step) << step)
-
-
-def _look_at_bounds(low, high):
-    if not are_bounds(low, high):
-        raise NoBounds("bounds are two whole numbers from 0 to 4096, low less than high")
 
 
 def _steps_over(low, high, step):

@@ -6,6 +6,12 @@ from sealedreach.whole import is_whole
 
 RIGHTS = "rwlsnfxco"
 WORTHS = 2 ** 45
+
+# Kinds; those from the first own one up to the top one are the programs' own.
+NOT_SEALED = 0
+ENTRY = 1
+GATE = 2
+FIRST_OWN_KIND = 3
 TOP_KIND = 15
 
 # Each field of the bits: its lowest bit, and how many bits it has.
@@ -59,7 +65,7 @@ def word_of(fields, *, marked=True):
     low, high, at, rights, kind = fields
     step, first, count = in_bits(low, high)
     places = (AT, FIRST, COUNT_LESS_ONE, STEP, RIGHTS_BITS, KIND)
-    worths = (at, first, count - 1, step, _bits_of_rights(rights), kind)
+    worths = (at, first, count - 1, step, bits_of_rights(rights), kind)
     return marked, sum([worth << place[0] for place, worth in zip(places, worths)])
 
 
@@ -74,13 +80,20 @@ def field(bits, place):
     return (bits >> lowest) & ((1 << many) - 1)
 
 
+def with_field(bits, place, worth):
+    """Tell the bits that have this worth at a place, and else stay as they are."""
+    lowest, _ = place
+    return bits + ((worth - field(bits, place)) << lowest)
+
+
 def rights_in(bits):
     """Tell the rights of bits, also where the bits tell nothing else."""
     number = field(bits, RIGHTS_BITS)
     return "".join([sign for k, sign in enumerate(RIGHTS) if (number >> k) & 1 == 1])
 
 
-def _bits_of_rights(rights):
+def bits_of_rights(rights):
+    """Tell the number that rights are in bits."""
     return sum([1 << k for k, sign in enumerate(RIGHTS) if sign in rights])
 
 

@@ -71,3 +71,73 @@ def go_together(rights):
     if "x" in rights:
         return not cells and not kinds
     return not (kinds and cells)
+
+
+def word(low=0, high=1, at=None, rights="", kind=0, marked=True):
+    """The word with these fields, at its low if no at is told."""
+    for step in range(9):
+        first, count = low // 2 ** step, (high - low) // 2 ** step
+        if (first * 2 ** step, (first + count) * 2 ** step) == (low, high) and count <= 16:
+            if tells(step, first, count):
+                at = low if at is None else at
+                return marked, bits_with(at, first, count, step, rights, kind)
+    raise AssertionError("no bits tell these bounds")
+
+
+def lawful_rights():
+    """All texts of rights that a marked word may have."""
+    return [rights for rights in all_rights() if go_together(rights)]
+
+
+def any_word(chance, marked=None):
+    """A word by chance: any bits without the mark, or all kinds of bounds, rights and kinds with it."""
+    if marked is None:
+        marked = chance.random() < 0.8
+    if not marked:
+        return False, chance.randrange(2 ** 45)
+    step = chance.choice((0, 0, 0, 1, 2, 5, 8))
+    count = chance.randint(9 if step else 1, 16)
+    first = chance.randint(0, 4096 // 2 ** step - count)
+    if step == 0 and chance.random() < 0.5:
+        first = chance.randint(0, 8)
+    low, high = first * 2 ** step, (first + count) * 2 ** step
+    at = chance.choice((low, chance.randint(low, high - 1), chance.randint(low, high - 1), high,
+                        chance.randrange(4096))) % 4096
+    kind = chance.choice((0, 0, 0, 0, 1, 2, 3, 4, 15, chance.randrange(16)))
+    return word(low, high, at, chance.choice(lawful_rights()), kind)
+
+
+BYS = [("box", 0), ("box", 7), ("worth", 0), ("worth", 9), ("worth", 65535)]
+DOINGS = ("plus", "minus", "times", "and", "or", "either")
+ASKED = ("mark", "bits", "at", "low", "high", "rights", "kind")
+TESTS = ("same", "unlike", "under", "from")
+
+
+def some_rows():
+    """Rows of each word, with all the edges of each part, each with its text."""
+    rows = [(("back",), "back")]
+    for box in (0, 3, 7):
+        rows.extend([((word, box), f"{word} {box}")
+                     for word in ("entry", "here", "enter", "call", "give")])
+        for number in (0, 9, 65535):
+            rows.append((("set", box, number), f"set {box} {number}"))
+        for by in BYS:
+            text = str(by[1]) if by[0] == "box" else f"#{by[1]}"
+            rows.extend([((word, box, by), f"{word} {box} {text}")
+                         for word in ("walk", "narrow", "exact", "room")])
+            rows.extend([(("do", word, box, by), f"{word} {box} {text}") for word in DOINGS])
+            for to in (0, 63, 4095):
+                rows.extend([(("jump", word, box, by, to), f"jump {word} {box} {text} {to}")
+                             for word in TESTS])
+        for other in (0, 5, 7):
+            rows.extend([((word, box, other), f"{word} {box} {other}")
+                         for word in ("move", "seal", "open")])
+            rows.extend([(("ask", box, what, other), f"ask {box} {what} {other}")
+                         for what in ASKED])
+            for offset in (-8, -1, 0, 2, 15):
+                rows.append((("load", box, other, offset), f"load {box} {other} {offset}"))
+                rows.append((("store", other, offset, box), f"store {other} {offset} {box}"))
+                rows.append((("poke", other, offset, box), f"poke {other} {offset} {box}"))
+    rows.extend([(("less", 7, rights), f"less 7 {rights or '-'}") for rights in all_rights()])
+    rows.extend([(("go", to), f"go {to}") for to in (0, 63, 64, 4095)])
+    return rows

@@ -13,6 +13,13 @@ DEFINED = {
                "NoCompartment", "TooMany", "NoName", "Sweeping", "NoSweep"),
     "words": ("is_word", "is_rights", "is_lawful", "fields_of", "word_of", "plain"),
     "bounds": ("is_exact", "least_bounds", "in_bits", "room_of", "greatest_high"),
+    "lesser": ("lies_within", "walked", "narrowed", "lessened", "sealed", "opened", "entry"),
+    "cells": ("Cells",),
+    "rows": ("look_at_rows",),
+    "rowtexts": ("shown_rows", "read_rows"),
+}
+METHODS = {
+    ("cells", "Cells"): ("load", "store", "poke", "lay", "clear", "cell", "marked", "twin", "__eq__"),
 }
 BUILTINS = set("""len range enumerate zip min max sum abs sorted reversed int str bool bytes list
     tuple dict set frozenset isinstance ord repr any all divmod map iter next Exception ValueError
@@ -90,6 +97,15 @@ class Package(unittest.TestCase):
             tree = ast.parse(text_of(os.path.join(PACKAGE, name + ".py")))
             there = [node.name for node in tree.body
                      if isinstance(node, (ast.FunctionDef, ast.ClassDef))]
+            for one in wanted:
+                self.assertEqual(there.count(one), 1, one)
+
+    def test_methods_are_defined_in_the_class_itself(self):
+        for (name, told), wanted in METHODS.items():
+            tree = ast.parse(text_of(os.path.join(PACKAGE, name + ".py")))
+            made = [node for node in tree.body
+                    if isinstance(node, ast.ClassDef) and node.name == told]
+            there = [node.name for node in made[0].body if isinstance(node, ast.FunctionDef)]
             for one in wanted:
                 self.assertEqual(there.count(one), 1, one)
 
