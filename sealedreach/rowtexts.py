@@ -51,9 +51,8 @@ def _shown_part(part, what):
     if what == "by":
         kind, number = part
         return "#" + str(number) if kind == "worth" else str(number)
-    if what == "rights" and part == "":
-        return "-"
-    return str(part)
+    # Rights alone are told by a text that may be empty.
+    return "-" if part == "" else str(part)
 
 
 def _part_in(text, what):

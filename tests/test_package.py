@@ -17,6 +17,8 @@ DEFINED = {
     "cells": ("Cells",),
     "rows": ("look_at_rows",),
     "rowtexts": ("shown_rows", "read_rows"),
+    "compartments": ("look_at_compartments",),
+    "loader": ("loaded",),
 }
 METHODS = {
     ("cells", "Cells"): ("load", "store", "poke", "lay", "clear", "cell", "marked", "twin", "__eq__"),

@@ -22,6 +22,7 @@ ONE_GOOD = {BOX: 3, BY: ("box", 3), TO: 3, OFFSET: 3, NUMBER: 3, RIGHTS: "rw", D
 ANY_OTHER = [" ", "-", "3", "#3", "wr", "rr", "box", "worth", "add", "PLUS", "plus ", "back",
              (3,), (3, 3), ("box",), ("box", 3, 3), ("worth", 3, 3), ("box", -1), ("box", 8),
              ("worth", -1), ("worth", 65536), ("worth", 10 ** 29), ("Box", 3), ("number", 3),
+             ("offset", 3), ("to", 3), ("rights", "rw"), ("by", ("box", 3)), ("doing", "plus"),
              (3, "box"), ["box", 3], ("box", "3"), ("worth", "3"), ("box", None), ("box", True),
              ("worth", False), ("box", ("box", 3)), (None, 3), (["box"], 3), ({}, 3),
              (plainly.Odd(), 3), ("worth", plainly.Odd()), (True, 3), -10 ** 29, 10 ** 29]
