@@ -3,19 +3,19 @@
 from sealedreach.bounds import CELLS, are_bounds, in_bits, is_exact, least_bounds
 from sealedreach.words import (
     AT, COUNT_LESS_ONE, ENTRY, FIRST, FIRST_OWN_KIND, GATE, KIND, NOT_SEALED, RIGHTS_BITS, STEP,
-    TOP_KIND, bits_of_rights, field, fields_of, rights_in, with_field)
+    TOP_KIND, bits_of_rights, bounds_in, field, rights_in, with_field)
 
 
 def lies_within(one, other):
     """Tell whether a marked word lies within another marked one; at is left out of account."""
     if not one[0] or not other[0]:
         return False
-    low, high, _, rights, kind = fields_of(one)
-    other_low, other_high, _, other_rights, other_kind = fields_of(other)
-    if low < other_low or high > other_high:
+    if not _has_bounds(other, bounds_in(one[1])):
         return False
-    if not all([sign in other_rights for sign in rights]):
+    rights = field(one[1], RIGHTS_BITS)
+    if rights & field(other[1], RIGHTS_BITS) != rights:
         return False
+    kind, other_kind = field(one[1], KIND), field(other[1], KIND)
     # No deed makes a gate of a word that is not sealed.
     return kind == other_kind or (other_kind == NOT_SEALED and kind != GATE)
 
@@ -33,10 +33,10 @@ def narrowed(word, many, *, exact=False):
     marked, bits = word
     if not marked:
         return word
-    bounds = _narrow_bounds(field(bits, AT), many, exact)
+    bounds = narrow_bounds(field(bits, AT), many, exact)
     if is_sealed(bits) or bounds is None or not _has_bounds(word, bounds):
         return without_mark(word)
-    return True, _with_bounds(bits, bounds)
+    return True, with_bounds(bits, bounds)
 
 
 def lessened(word, rights):
@@ -66,11 +66,7 @@ def opened(word, other):
         return word
     if not _gives_kind(other, "o") or field(bits, KIND) != field(other[1], AT):
         return without_mark(word)
-    bare = with_field(bits, KIND, NOT_SEALED)
-    # A near opener is lent for a while: what it opens must not be kept for longer.
-    if "f" in rights_in(other[1]):
-        return True, bare
-    return lessened((True, bare), rights_in(bits).replace("f", ""))
+    return bared_by(word, other)
 
 
 def entry(word):
@@ -93,23 +89,39 @@ def without_mark(word):
     return False, word[1]
 
 
-def _narrow_bounds(at, many, exact):
+def bared(word):
+    """Tell the word with its kind 0, marked or not as it is."""
+    return word[0], with_field(word[1], KIND, NOT_SEALED)
+
+
+def bared_by(word, other):
+    """Tell the marked word with its kind 0, and far only where the other word is."""
+    bare = bared(word)
+    # A near opener is lent for a while: what it opens must not be kept for longer.
+    if "f" in rights_in(other[1]):
+        return bare
+    return lessened(bare, rights_in(word[1]).replace("f", ""))
+
+
+def narrow_bounds(at, many, exact):
+    """Tell the bounds of so many cells from at on, None where there are none or none so exact."""
     low, high = at, at + many
     if not are_bounds(low, high) or (exact and not is_exact(low, high)):
         return None
     return least_bounds(low, high)
 
 
-def _has_bounds(word, bounds):
-    low, high, _, _, _ = fields_of(word)
-    return low <= bounds[0] and bounds[1] <= high
-
-
-def _with_bounds(bits, bounds):
+def with_bounds(bits, bounds):
+    """Tell the bits that have these bounds, and else stay as they are."""
     step, first, count = in_bits(bounds[0], bounds[1])
     bits = with_field(bits, STEP, step)
     bits = with_field(bits, FIRST, first)
     return with_field(bits, COUNT_LESS_ONE, count - 1)
+
+
+def _has_bounds(word, bounds):
+    low, high = bounds_in(word[1])
+    return low <= bounds[0] and bounds[1] <= high
 
 
 def _gives_kind(word, right):
@@ -117,5 +129,6 @@ def _gives_kind(word, right):
     marked, bits = word
     if not marked or is_sealed(bits) or right not in rights_in(bits):
         return False
-    low, high, at, _, _ = fields_of(word)
+    low, high = bounds_in(bits)
+    at = field(bits, AT)
     return low <= at < high and FIRST_OWN_KIND <= at <= TOP_KIND

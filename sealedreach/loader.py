@@ -5,8 +5,8 @@ from sealedreach.cells import Cells
 from sealedreach.compartments import look_at_compartments
 from sealedreach.errors import NoNumber
 from sealedreach.switch import gate_to
-from sealedreach.whole import is_whole
-from sealedreach.words import FIRST_OWN_KIND, NOT_SEALED, fields_of, word_of
+from sealedreach.whole import is_whole, next_multiple
+from sealedreach.words import CELLS_WORD_RIGHTS, FIRST_OWN_KIND, fields_of, word_to
 
 STACK = 64
 MOST_STACK = 256
@@ -28,7 +28,7 @@ def loaded(compartments, *, stack=STACK):
     return {
         "rows": _rows_at(compartments, rows_bounds), "cells": _cells(compartments, words),
         "words": words, "stack": stack_bounds,
-        "heap": (_next_multiple(stack_bounds[1], HEAP_STEP), CELLS)}
+        "heap": (next_multiple(stack_bounds[1], HEAP_STEP), CELLS)}
 
 
 def _rooms(sizes, start):
@@ -38,27 +38,17 @@ def _rooms(sizes, start):
     for many in sizes:
         size, step = room_of(many)
         # Only from a multiple of its step on is a room told exactly.
-        low = _next_multiple(behind, 1 << step)
+        low = next_multiple(behind, 1 << step)
         behind = low + size
         rooms.append((low, behind))
     return rooms
 
 
-def _next_multiple(number, step):
-    """Tell the least multiple of a step that isn't below a number."""
-    return (number + step - 1) // step * step
-
-
 def _words(number, rows_bounds, cells_bounds):
     """Tell the rows word, cells word and seal word of the compartment with this number."""
     kind = FIRST_OWN_KIND + number
-    return (_word_to(rows_bounds, "fx"), _word_to(cells_bounds, "rwlsf"),
-            _word_to((kind, kind + 1), "fco"))
-
-
-def _word_to(bounds, rights):
-    low, high = bounds
-    return word_of((low, high, low, rights, NOT_SEALED))
+    return (word_to(rows_bounds, "fx"), word_to(cells_bounds, CELLS_WORD_RIGHTS),
+            word_to((kind, kind + 1), "fco"))
 
 
 def _rows_at(compartments, rows_bounds):

@@ -10,6 +10,16 @@ def is_whole(thing, least, most):
     return isinstance(thing, int) and not isinstance(thing, bool) and least <= thing <= most
 
 
+def is_whole_from(thing, least):
+    """Tell of anything whether it is a whole number from least on, however great."""
+    return isinstance(thing, int) and not isinstance(thing, bool) and least <= thing
+
+
+def next_multiple(number, step):
+    """Tell the least multiple of a step that isn't below a number."""
+    return (number + step - 1) // step * step
+
+
 def whole_in(text):
     """Tell the whole number that a text writes in figures, None where it writes none."""
     figures = text.removeprefix("-")
@@ -18,3 +28,10 @@ def whole_in(text):
     if figures[0] == "0" and text != "0":
         return None
     return int(text)
+
+
+def short_whole_in(text, most):
+    """Tell the whole number from 0 on that so many figures at most write, None where they don't."""
+    if len(text) > most or text.startswith("-"):
+        return None
+    return whole_in(text)

@@ -25,6 +25,9 @@ KIND = (41, 4)
 # The rights to cells, to rows, to kinds: a lawful marked word has some of one group alone.
 GROUPS = ("rwlsn", "x", "co")
 
+# What a word to one's own cells, or to a room, may do.
+CELLS_WORD_RIGHTS = "rwlsf"
+
 
 def is_word(thing):
     """Tell of anything whether it is a word."""
@@ -52,10 +55,8 @@ def fields_of(word):
     bits = word[1]
     if not _tell(bits):
         return None
-    step = field(bits, STEP)
-    first = field(bits, FIRST)
-    behind = first + field(bits, COUNT_LESS_ONE) + 1
-    return first << step, behind << step, field(bits, AT), rights_in(bits), field(bits, KIND)
+    low, high = bounds_in(bits)
+    return low, high, field(bits, AT), rights_in(bits), field(bits, KIND)
 
 
 def word_of(fields, *, marked=True):
@@ -67,6 +68,12 @@ def word_of(fields, *, marked=True):
     places = (AT, FIRST, COUNT_LESS_ONE, STEP, RIGHTS_BITS, KIND)
     worths = (at, first, count - 1, step, bits_of_rights(rights), kind)
     return marked, sum([worth << place[0] for place, worth in zip(places, worths)])
+
+
+def word_to(bounds, rights):
+    """Tell the marked word to bounds that is at their low and not sealed."""
+    low, high = bounds
+    return word_of((low, high, low, rights, NOT_SEALED))
 
 
 def plain(number):
@@ -84,6 +91,18 @@ def with_field(bits, place, worth):
     """Tell the bits that have this worth at a place, and else stay as they are."""
     lowest, _ = place
     return bits + ((worth - field(bits, place)) << lowest)
+
+
+def bounds_in(bits):
+    """Tell the bounds of bits that tell something."""
+    step = field(bits, STEP)
+    first = field(bits, FIRST)
+    return first << step, (first + field(bits, COUNT_LESS_ONE) + 1) << step
+
+
+def leads_to_cells(word):
+    """Tell whether a word is marked and has a right to cells, be it sealed or not."""
+    return word[0] and _has_some(rights_in(word[1]), GROUPS[0])
 
 
 def rights_in(bits):
