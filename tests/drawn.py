@@ -65,8 +65,10 @@ def draw_careful(chance):
         [("room", free, ("worth", 20)), ("load", free, free, 0)],
         [("room", free, ("worth", 20)), ("store", free, 5, free), ("store", 7, 5, free)],
         [("room", free, ("worth", 2)), ("store", free, 1, other), ("store", 7, 4, free)],
-        [("room", free, ("worth", 1)), ("move", other, free), ("give", free), ("store", 7, 4, other)],
-        [("room", free, ("worth", 9)), ("move", other, free), ("give", free), ("load", third, other, 0)]))
+        [("room", free, ("worth", 1)), ("move", other, free), ("give", free),
+         ("store", 7, 4, other)],
+        [("room", free, ("worth", 9)), ("move", other, free), ("give", free),
+         ("load", third, other, 0)]))
 
 
 def draw_box(chance):
@@ -133,3 +135,52 @@ def draw_handed(chance):
     else:
         low, high = chance.choice(((0, 16), (3, 4), (4, 9), (0, 256), (16, 52)))
     return plainly.word(low, high, low + chance.randrange(3), rights, kind)
+
+
+def draw_blind(chance):
+    """A program that goes by no address and no kind as a number: box 5 alone holds numbers."""
+    names = LETTERS[:chance.choice((2, 3, 4, 6))]
+    begin = chance.choice(names)
+    made = []
+    for name in names:
+        rows = []
+        while len(rows) < chance.randint(10, 45):
+            rows.extend(draw_some_blind(chance))
+            if name != begin and chance.random() < 0.15:
+                rows.append(("back",))
+        rows.append(("go", 0) if name == begin else ("back",))
+        doors = sorted({0} | {chance.randrange(len(rows)) for _ in range(2)})
+        made.append((name, rows, tuple(doors), chance.choice((6, 9, 17, 33, 64))))
+    doors = [(name, k) for name, _, held, _ in made for k in range(len(held))]
+    told = [(name, rows, held, many, tuple(chance.choices(doors, k=3)))
+            for name, rows, held, many in made]
+    return told, begin, chance.choice((64, 64, 9, 17, 33, 256))
+
+
+def draw_some_blind(chance):
+    """A few rows; what few bits tell of sizes up to 256 hangs on no place."""
+    free, other, third = (chance.randrange(5) for _ in range(3))
+    own = chance.randrange(6)
+    number = ("worth", chance.randrange(9))
+    return chance.choice((
+        [("set", 5, chance.randrange(9))], [("do", chance.choice(plainly.DOINGS), 5, number)],
+        [("ask", free, chance.choice(("mark", "rights")), 5)],
+        [("jump", chance.choice(plainly.TESTS), 5, number, chance.randrange(12))],
+        [("move", free, other)], [("move", free, 7)], [("move", free, 6)],
+        [("move", free, 7), ("walk", free, number), ("narrow", free, ("worth", 1 + own))],
+        [("move", free, 6), ("walk", free, ("worth", 4090)), ("exact", free, ("worth", 1 + own))],
+        [("walk", free, number)], [("narrow", free, number)], [("exact", free, number)],
+        [("less", free, chance.choice(RIGHTS))], [("here", free)], [("less", free, "rwls")],
+        [("load", free, 7, 0), ("seal", other, free)], [("load", free, 7, 0), ("open", other, free)],
+        [("load", free, 7, own)], [("load", free, 7, 4 + own % 2)], [("load", free, other, 0)],
+        [("store", 7, 4 + own % 2, free)], [("store", 7, 4 + own % 2, free)], [("poke", 7, own, 5)],
+        [("store", 6, -1 - own, free)], [("load", free, 6, -1 - own)], [("store", 6, -1, 6)],
+        [("walk", 6, ("worth", 4096 - own)), ("load", free, 7, 1), ("call", free)],
+        [("here", free), ("walk", free, ("worth", 3)), ("entry", free), ("enter", free)],
+        [("load", free, 7, 1 + own % 3), ("call", free)],
+        [("load", free, 7, 1 + own % 3), ("call", free)],
+        [("room", free, ("worth", chance.choice((1, 2, 16, 17, 40))))],
+        [("room", free, ("worth", 9)), ("store", free, 1, other), ("store", 7, 4, free)],
+        [("room", free, ("worth", 3)), ("store", 7, 4, free), ("give", free)],
+        [("room", free, ("worth", 20)), ("move", other, free), ("give", free),
+         ("load", third, other, 0)]))

@@ -172,6 +172,13 @@ class Faults(unittest.TestCase):
                             (0,), 2, (("a", 0),))], "a", without="less")
         self.assertEqual(machine.run(9), ("fault", "stack"))
 
+    def test_a_stack_that_reaches_out(self):
+        """Without the rule `narrow` a program makes a word that leads beyond the stack."""
+        for many, fault in ((4, None), (5, ("fault", "stack")), (16, ("fault", "stack"))):
+            rows = rows_of(f"load 0 7 1; walk 6 #4092; narrow 6 #{many}; walk 6 #1; call 0")
+            machine = Machine([("a", rows, (0,), 4, (("a", 0),))], "a", without="narrow")
+            self.assertEqual(machine.run(5), fault)
+
     def test_deep(self):
         machine = two(GATE + "; back", "load 0 7 1; call 0; back")
         machine.run(16)

@@ -434,6 +434,15 @@ class Alike(unittest.TestCase):
         on.sweep(4096)
         self.like(on, machine)
 
+    def test_a_sweep_that_is_done_leaves_nothing(self):
+        machine = done("room 0 #2; give 0")
+        machine.begin_sweep()
+        machine.sweep(4096)
+        twin = machine.twin()
+        twin.begin_sweep()
+        twin.sweep(4096)
+        self.like(machine, twin)
+
     def test_like_nothing_else(self):
         machine = one("back")
         for thing in plainly.odd_things() + [0, 5, "", "a", [machine], (machine,)]:

@@ -20,12 +20,17 @@ DEFINED = {
     "compartments": ("look_at_compartments",),
     "loader": ("loaded",),
     "machine": ("Machine",),
+    "reach": ("is_closed", "reach", "lets_be"),
+    "rules": ("breaking", "played"),
+    "texts": ("shown_word", "shown", "read_word", "read"),
+    "desk": ("Desk",),
 }
 METHODS = {
     ("cells", "Cells"): ("load", "store", "poke", "lay", "clear", "cell", "marked", "twin", "__eq__"),
     ("machine", "Machine"): ("__init__", "step", "run", "boxes", "shelf_words", "own_words", "touches",
                              "standing", "taken", "given", "row_word", "cell", "depth", "steps",
                              "told", "begin_sweep", "sweep", "swept", "twin", "__eq__"),
+    ("desk", "Desk"): ("__init__", "say"),
 }
 BUILTINS = set("""len range enumerate zip min max sum abs sorted reversed int str bool bytes list
     tuple dict set frozenset isinstance ord repr any all divmod map iter next Exception ValueError

@@ -4,11 +4,15 @@ import random
 import unittest
 
 import drawn
+import plainly
+import plainreach
 from made import cells_in, cells_of, one, rows_of
 from plainly import word
 from plainmachine import Plain, bounds_of, changed, parts, rights_of, to_cells
 from sealedreach.lesser import lies_within
 from sealedreach.machine import Machine
+from sealedreach.reach import is_closed, lets_be, reach
+from sealedreach.texts import read, read_word, shown, shown_word
 
 STEPS = 200
 
@@ -50,6 +54,68 @@ def marked_words(machine):
 def of_kind(told, kind):
     """The word with that kind in the stead of its own."""
     return True, changed(told[1], kind=kind)
+
+
+class Reaches(unittest.TestCase):
+    """Point 3 (a)."""
+
+    def tables(self, machine, chance):
+        """Closed tables, told ones and such with words beside, each with whether gates were asked."""
+        for gates in (False, True):
+            yield reach(machine, gates=gates), gates
+            beside = [plainly.any_word(chance, True) for _ in range(chance.randrange(3))]
+            yield plainreach.least(machine, gates, beside), gates
+
+    def goes_on(self, machine, chance, held):
+        """A step; all tables that still bound the machine let all touches be."""
+        depth = machine.depth()
+        machine.step()
+        if machine.depth() != depth:
+            held[:] = [kept for kept in held if kept[1]]
+        some_sweep(machine, chance)
+        for table, _, since in held:
+            self.assertTrue(lets_be(table, machine, since=since))
+        return sum(len(machine.touches()) - since for _, _, since in held)
+
+    def test_drawn_ones(self):
+        let_be = 0
+        for seed in range(700, 800):
+            machine, chance = drawn_machine(seed)
+            held = []
+            while machine.told() is None and machine.steps() < STEPS:
+                if machine.steps() % 40 == 0:
+                    for table, gates in self.tables(machine, chance):
+                        self.assertTrue(is_closed(machine, table, gates=gates))
+                        held.append((table, gates, len(machine.touches())))
+                let_be += self.goes_on(machine, chance, held)
+        self.assertGreater(let_be, 10000)
+
+    def test_a_narrower_table_does_not_let_all_be(self):
+        """So the tests above would see it."""
+        missed = 0
+        for seed in range(700, 730):
+            machine, _ = drawn_machine(seed)
+            table = reach(machine, gates=True)
+            machine.run(STEPS)
+            for left_out in table:
+                rest = [told for told in table if told != left_out]
+                self.assertFalse(is_closed(drawn_machine(seed)[0], rest, gates=True))
+                missed += not lets_be(rest, machine)
+        self.assertGreater(missed, 30)
+
+    def test_words_stay_within_the_table(self):
+        """All marked words of a machine, but those to rooms given out since, lie within it."""
+        for seed in range(830, 880):
+            machine, chance = drawn_machine(seed)
+            machine.run(chance.randrange(30))
+            table, given = reach(machine, gates=True), len(machine.given())
+            machine.run(STEPS)
+            rooms = [(low, high) for _, low, high in machine.given()[given:]]
+            held = machine.boxes() + machine.shelf_words() + [machine.row_word()]
+            for told in held:
+                low, high = bounds_of(told[1])
+                if told[0] and not any(low < behind and first < high for first, behind in rooms):
+                    self.assertTrue(any(lies_within(told, other) for other in table), seed)
 
 
 class NoRowWidens(unittest.TestCase):
@@ -199,6 +265,120 @@ class Sweeps(unittest.TestCase):
                     done += 1
         self.assertGreater(done, 500)
         self.assertGreater(struck, 100)
+
+
+class Places:
+    """Where words of a machine lead, told so that no address and no kind of its own occurs."""
+
+    def __init__(self, machine, compartments):
+        self.machine = machine
+        self.names = [one_of[0] for one_of in compartments]
+        self.rows = [bounds_of(rows_word[1]) for rows_word, _ in machine.own_words()]
+        self.cells = [bounds_of(cells_word[1]) for _, cells_word in machine.own_words()]
+        self.stack = bounds_of(machine.boxes()[6][1])
+
+    def place(self, address, rights="r"):
+        """What an address belongs to, and the first address of that."""
+        if "x" in rights:
+            rooms = zip(self.names, self.rows)
+        elif "c" in rights or "o" in rights:
+            rooms = [(name, (3 + k, 4 + k)) for k, name in enumerate(self.names)]
+        else:
+            rooms = [*zip(self.names, self.cells), ("stack", self.stack)]
+            given = self.machine.given()
+            rooms += [(k, given[k][1:]) for k in reversed(range(len(given)))]
+        return next((name, low) for name, (low, high) in rooms if low <= address < high)
+
+    def kind(self, kind):
+        return kind if kind < 3 else self.names[kind - 3]
+
+    def word(self, told):
+        if not told[0]:
+            return "plain"
+        rights = rights_of(told[1])
+        if not set(rights) & set("rwlsnxco"):
+            return rights, self.kind(parts(told[1])["kind"])
+        low, high = bounds_of(told[1])
+        name, first = self.place(low, rights)
+        return (name, low - first, high - first, (parts(told[1])["at"] - first) % 4096, rights,
+                self.kind(parts(told[1])["kind"]))
+
+    def touches(self):
+        told = []
+        for name, what, address in self.machine.touches():
+            place, first = self.place(address)
+            told.append((name, what, place, address - first))
+        return told
+
+    def table(self, gates):
+        return sorted([self.word(told) for told in reach(self.machine, gates=gates)])
+
+    def all_told(self):
+        """All that is alike in whatever order; box 5 holds numbers, 0 and 1 what calls answer."""
+        machine, came = self.machine, self.machine.told()
+        if came is not None and came[0] == "end":
+            came = ("end", self.word(came[1]))
+        return {"boxes": [self.word(told) for told in machine.boxes()], "number": machine.boxes()[5],
+                "row": self.word(machine.row_word()), "came": came, "steps": machine.steps(),
+                "shelf": [self.word(told) for told in machine.shelf_words()],
+                "touches": self.touches(), "given": [told[0] for told in machine.given()]}
+
+
+class Orders(unittest.TestCase):
+    """Point 3 (g)."""
+
+    def go_both(self, seed):
+        chance = random.Random(seed)
+        compartments, begin, stack = drawn.draw_blind(chance)
+        other = list(compartments)
+        while other == compartments:
+            chance.shuffle(other)
+        both = [Places(Machine(made, begin, stack=stack), made) for made in (compartments, other)]
+        for gates in (False, True):
+            self.assertEqual(both[0].table(gates), both[1].table(gates))
+        for _ in range(30):
+            many, sweeps = chance.randrange(9), chance.random() < 0.2
+            for places in both:
+                places.machine.run(many)
+                if sweeps:
+                    places.machine.begin_sweep()
+                    places.machine.sweep(4096)
+            self.assertEqual(both[0].all_told(), both[1].all_told(), seed)
+        return both[0].machine
+
+    def test_drawn_ones(self):
+        touches = calls = 0
+        for seed in range(200):
+            machine = self.go_both(seed)
+            touches += len(machine.touches())
+            calls += machine.depth()
+        self.assertGreater(touches, 3000)
+        self.assertGreater(calls, 50)
+
+    def test_tables_at_first(self):
+        """Of any programs, whatever their rows go by."""
+        for seed in range(60):
+            chance = random.Random(seed)
+            compartments, begin, stack = drawn.draw(chance)
+            other = chance.sample(compartments, len(compartments))
+            both = [Places(Machine(made, begin, stack=stack), made) for made in (compartments, other)]
+            for gates in (False, True):
+                self.assertEqual(both[0].table(gates), both[1].table(gates))
+
+
+class Written(unittest.TestCase):
+    """Point 3 (h)."""
+
+    def test_drawn_ones(self):
+        for seed in range(60):
+            chance = random.Random(seed)
+            compartments, begin, stack = drawn.draw(chance)
+            self.assertEqual(read(shown(compartments)), compartments)
+            machine = Machine(read(shown(compartments)), begin, stack=stack)
+            self.assertTrue(machine == Machine(compartments, begin, stack=stack))
+            machine.run(STEPS)
+            for told in machine.boxes() + machine.shelf_words() + words_in_cells(machine):
+                self.assertEqual(read_word(shown_word(told)), told)
 
 
 if __name__ == "__main__":

@@ -305,7 +305,8 @@ class AllElse(Without):
 
     def test_calls(self):
         for rule in RULES:
-            begins, called = rows_of("set 2 7; load 0 7 1; call 0; back"), rows_of("set 2 8; set 0 9; back")
+            begins = rows_of("set 2 7; load 0 7 1; call 0; back")
+            called = rows_of("set 2 8; set 0 9; back")
             machine = Machine([("a", begins, (), 2, (("b", 0),)), ("b", called, (0,), 1, ())], "a",
                               without=rule)
             self.assertEqual(machine.run(9), ("end", (False, 9)))
