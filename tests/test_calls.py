@@ -3,7 +3,7 @@
 import unittest
 
 import plainly
-from made import FAULTS, NOUGHT, all_told, cells_of, marked_cells, one, rows_of, two
+from made import FAULTS, NOUGHT, all_told, cells_of, marked_cells, rows_of, two
 from plainly import word
 from sealedreach.machine import Machine
 
